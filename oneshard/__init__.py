@@ -1,0 +1,1 @@
+"""Oneshard: record patterns that stay in one shard under every sharding rule."""
