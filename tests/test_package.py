@@ -1,6 +1,7 @@
 """Tests of the package's files: where the interface is defined, and the plain limits of LANGUAGE.md."""
 
 import ast
+import builtins
 import pathlib
 import unittest
 
@@ -19,6 +20,17 @@ INTERFACE = {
                  "__neg__", "__add__", "__radd__", "__sub__", "__rsub__", "__mul__", "__rmul__", "__call__",
                  "__str__"],
     },
+    "lines": {
+        "Equation": ["__init__", "form", "names", "holds", "__eq__", "__str__"],
+        "Congruence": ["__init__", "form", "modulus", "names", "holds", "__eq__", "__str__"],
+        "Unlike": ["__init__", "first", "second", "names", "holds", "__eq__", "__str__"],
+    },
+    "patterns": {
+        "Pattern": ["__init__", "names", "lines", "read", "without", "holds", "__len__", "__contains__", "__eq__",
+                    "__and__", "__str__"],
+    },
+    "boxes": {"box_solutions": None},
+    "ratios": {"lowest": None, "common_divisor": None, "common_multiple": None},
 }
 
 LIBRARY = {
@@ -28,6 +40,16 @@ LIBRARY = {
                   "zip_longest"},
     "collections": {"defaultdict"},
 }
+
+
+# L8 and L25: the builtins and the methods of builtin values that the package may call.
+BUILTINS = {"len", "range", "enumerate", "zip", "min", "max", "sum", "abs", "sorted", "reversed", "int", "str", "bool",
+            "list", "tuple", "dict", "set", "isinstance", "ord", "repr", "any", "all", "divmod"}
+ERRORS = {"ValueError", "TypeError", "KeyError", "IndexError", "ZeroDivisionError", "NotImplemented"}
+METHODS = {"append", "clear", "copy", "count", "endswith", "extend", "find", "get", "index", "insert", "isdigit",
+           "items", "join", "keys", "partition", "pop", "remove", "replace", "reverse", "rpartition", "setdefault",
+           "split", "splitlines", "startswith", "strip", "update", "values", "zfill", "bit_length"}
+NODES = (ast.GeneratorExp, ast.Lambda, ast.Global, ast.AsyncFunctionDef, ast.Div, ast.Await, ast.SetComp, ast.Set)
 
 
 def sources():
@@ -81,6 +103,31 @@ class Files(unittest.TestCase):
                 if isinstance(node, ast.ImportFrom) and not node.module.startswith("oneshard."):
                     names = {alias.name for alias in node.names}
                     self.assertLessEqual(names, LIBRARY.get(node.module, set()), str(path))
+
+    def test_kinds_of_statements_and_expressions(self):
+        for path in sources():
+            for node in ast.walk(tree(path)):
+                self.assertNotIsInstance(node, NODES, str(path))
+                if isinstance(node, ast.Constant):
+                    self.assertNotIsInstance(node.value, (float, complex), str(path))
+                    self.assertNotIn("%", str(node.value), str(path))
+
+    def test_builtins(self):
+        known = set(dir(builtins))
+        for path in sources():
+            for node in ast.walk(tree(path)):
+                if isinstance(node, ast.Name) and node.id in known:
+                    self.assertIn(node.id, BUILTINS | ERRORS | {"property", "classmethod"}, str(path))
+                    self.assertIsInstance(node.ctx, ast.Load, str(path))
+                if isinstance(node, ast.arg):
+                    self.assertNotIn(node.arg, known, str(path))
+
+    def test_called_methods(self):
+        nodes = [(path, node) for path in sources() for node in ast.walk(tree(path))]
+        own = {node.name for _, node in nodes if isinstance(node, ast.FunctionDef)}
+        for path, node in nodes:
+            if isinstance(node, ast.Call) and isinstance(node.func, ast.Attribute):
+                self.assertIn(node.func.attr, METHODS | own | {"_form"}, str(path))
 
 
 if __name__ == "__main__":
