@@ -31,6 +31,9 @@ INTERFACE = {
     },
     "boxes": {"box_solutions": None},
     "ratios": {"lowest": None, "common_divisor": None, "common_multiple": None},
+    "elimination": {"mixture": None, "kernel": None},
+    "staircases": {"check_steps": None, "climb": None, "reached": None},
+    "splitting": {"partial_sums": None, "least_base": None, "is_prime": None, "split": None, "check_split": None},
 }
 
 LIBRARY = {
