@@ -1,4 +1,4 @@
-"""What elimination, steps and splitting rows have in common: columns, rows and their products."""
+"""What elimination, steps, splitting rows and verdicts have in common: columns, rows and their products."""
 
 from oneshard.errors import BadLength
 from oneshard.ratios import common_divisor
@@ -31,3 +31,12 @@ def shortened(row):
     if divisor == 0:
         return tuple(row)
     return tuple([item // divisor for item in row])
+
+
+def harmless_factor(sums, others):
+    """Return the least factor from 0 on for which no sum + factor * other is 0 unless both are 0."""
+    factor = 0
+    # A pair rules out one factor at most, so there are not more tries than pairs.
+    while any([other != 0 and total + factor * other == 0 for total, other in zip(sums, others)]):
+        factor = factor + 1
+    return factor

@@ -1,6 +1,6 @@
 """Splitting rows: rows and bases that no equal last figures of records get past."""
 
-from oneshard.columns import common_length, dot_product, shortened
+from oneshard.columns import common_length, dot_product, harmless_factor, shortened
 from oneshard.elimination import kernel
 from oneshard.errors import ZeroSum
 from oneshard.ratios import common_divisor
@@ -48,22 +48,13 @@ def is_prime(number):
     return True
 
 
-def _harmless_factor(sums, others):
-    """Return the least factor from 0 on for which no sum + factor * other is 0 unless both are 0."""
-    factor = 0
-    # A pair rules out one factor at most, so there are not more tries than pairs.
-    while any([other != 0 and total + factor * other == 0 for total, other in zip(sums, others)]):
-        factor = factor + 1
-    return factor
-
-
 def _splitting_row(rows, columns):
     """Return a sum of multiples of the rows; its product with a sum of columns is 0 only if those of all rows are."""
     found = [0] * common_length(columns)
     for row in rows:
         sums = partial_sums([dot_product(found, column) for column in columns])
         others = partial_sums([dot_product(row, column) for column in columns])
-        factor = _harmless_factor(sums, others)
+        factor = harmless_factor(sums, others)
         found = [first + factor * second for first, second in zip(found, row)]
     return shortened(found)
 

@@ -1,8 +1,8 @@
-"""Tests of oneshard.columns: the parts that points 26 to 38 have in common."""
+"""Tests of oneshard.columns: the parts that points 26 to 38 and 53 have in common."""
 
 import unittest
 
-from oneshard.columns import check_lengths, common_length, dot_product, shortened
+from oneshard.columns import check_lengths, common_length, dot_product, harmless_factor, shortened
 from oneshard.errors import BadLength
 
 
@@ -32,6 +32,11 @@ class Rows(unittest.TestCase):
     def test_shortened(self):
         self.assertEqual([shortened([4, -6, 0]), shortened((0, -5)), shortened([0, 0]), shortened([]),
                           shortened([3, 2])], [(2, -3, 0), (0, -1), (0, 0), (), (3, 2)])
+
+    def test_harmless_factors(self):
+        self.assertEqual([harmless_factor([1, -1], [0, 1]), harmless_factor([0], [1]), harmless_factor([0], [0]),
+                          harmless_factor([], []), harmless_factor([0, -1, -2, 5], [1, 1, 1, 0]),
+                          harmless_factor((3, -2, 0), (-3, 1, -1))], [0, 1, 0, 0, 3, 3])
 
 
 if __name__ == "__main__":

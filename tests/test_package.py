@@ -34,6 +34,13 @@ INTERFACE = {
     "elimination": {"mixture": None, "kernel": None},
     "staircases": {"check_steps": None, "climb": None, "reached": None},
     "splitting": {"partial_sums": None, "least_base": None, "is_prime": None, "split": None, "check_split": None},
+    "rules": {
+        "Rule": ["__init__", "one_shard", "remainder", "last_figure", "leading", "factors", "same", "__call__",
+                 "__mul__", "__eq__", "__len__"],
+    },
+    "constants": {"constants": None, "check_rests": None},
+    "checking": {"check_paper": None},
+    "verdicts": {"Verdict": ["__init__", "sure"], "decide": None},
 }
 
 LIBRARY = {
