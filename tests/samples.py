@@ -150,6 +150,17 @@ def some_rules(constant):
     return rules
 
 
+def random_rule(source, constant):
+    rule = Rule.one_shard()
+    for _ in range(source.choice([1, 2, 3, 12])):
+        shift = source.choice([0, constant, constant, constant + source.randint(-9, 9), source.randint(-10000, 10000)])
+        rule = rule * source.choice([
+            Rule.remainder(source.choice([1, 2, 3, 4, 6, 9973, source.randint(1, 10000)]), shift=shift),
+            Rule.last_figure(source.choice([2, 2, 3, 3, 5, 7, 9973]), shift=shift),
+            Rule.leading(source.randint(1, 8), source.randint(1, 6), shift=shift)])
+    return rule
+
+
 def box(pattern):
     """Return the solutions of a small box."""
     return list(box_solutions(pattern, LIMITS[len(pattern.names)]))

@@ -384,7 +384,8 @@ class Family(Checking):
     def test_name_twice(self):
         pattern = Pattern.read("x y z\nx = y")
         for steps in [((("x", "y"), ()), (("z", "z"), ())), ((("x", "y", "z"), ()), (("z",), ())),
-                      ((("x", "y"), ()), (("z",), ()), (("z",), ())), ((("x", "y"), ()), (("x", "y"), ()), (("z",), ()))]:
+                      ((("x", "y"), ()), (("z",), ()), (("z",), ())),
+                      ((("x", "y"), ()), (("x", "y"), ()), (("z",), ()))]:
             self.wrong(pattern, ("family", 4, steps, (0, 0, 0)))
 
     def test_names_that_the_pattern_does_not_have(self):

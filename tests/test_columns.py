@@ -15,8 +15,8 @@ class Lengths(unittest.TestCase):
     def test_right_lengths(self):
         self.assertIsNone(check_lengths([], 3))
         self.assertIsNone(check_lengths([[1, 2], (3, 4)], 2))
-        self.assertEqual([common_length([]), common_length(()), common_length([[]]), common_length([[1, 2], (3, 4)])],
-                         [0, 0, 0, 2])
+        self.assertEqual([common_length([]), common_length(()), common_length([[]]), common_length([[7]]),
+                          common_length([[1, 2], (3, 4)])], [0, 0, 0, 1, 2])
 
     def test_first_wrong_length(self):
         self.assertEqual(self.length(check_lengths, [[1, 2], [1], [1, 2, 3]], 2), 1)

@@ -36,6 +36,7 @@ class Lines(unittest.TestCase):
     def test_multipliers(self):
         self.assertEqual(spread(PATTERN, (4, -7)), (4, 0, 0, -7))
         self.assertEqual(spread(Pattern.read("x y\nx != y"), ()), (0,))
+        self.assertEqual(spread(Pattern.read("x y\nx = 1\nx = 2\nx != y\nx = 3\nx = 4"), [5, 6, 7, 8]), (5, 6, 0, 7, 8))
         self.assertIs(only_equations(PATTERN, (4, 0, 0, -7)), True)
         for multipliers in [(4, 1, 0, -7), (4, 0, 1, -7), (4, 0, 0), (4, 0, 0, 1, 0), ()]:
             self.assertIs(only_equations(PATTERN, multipliers), False)
@@ -57,6 +58,8 @@ class Steps(unittest.TestCase):
         for steps in [self.STEPS[1:], ((("z", "x", "q"), ()),), ((("z", "x"), ()), (("y",), (("q", -1, 1),))),
                       ((("z", "x"), ()), (("y",), (("z", 1, 1),)))]:
             self.assertIs(right_steps(self.PATTERN, steps), False)
+        for name in ["q", "", "x1"]:
+            self.assertIs(right_steps(Pattern(["x", "y", "z"]), (((name,), ()),)), False)
 
 
 if __name__ == "__main__":

@@ -41,6 +41,13 @@ INTERFACE = {
     "constants": {"constants": None, "check_rests": None},
     "checking": {"check_paper": None},
     "verdicts": {"Verdict": ["__init__", "sure"], "decide": None},
+    "families": {"family_forms": None},
+    "placing": {"place": None, "places": None, "splitting_rule": None},
+    "shelves": {"joined": None, "one_rule": None, "least_drops": None},
+    "books": {
+        "Book": ["__init__", "order", "drop", "pattern", "verdict", "undo", "tried", "__getitem__", "__setitem__",
+                 "__contains__", "__len__"],
+    },
 }
 
 LIBRARY = {

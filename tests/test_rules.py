@@ -9,6 +9,7 @@ import unittest
 from samples import last_figure, raised
 
 from oneshard.errors import BadCount, NotPrime, OutOfRange
+from oneshard.forms import Form
 from oneshard.rules import Rule
 
 BIG = 10 ** 30 - 1
@@ -154,7 +155,8 @@ class Labels(unittest.TestCase):
 
     def test_record_at_the_shift(self):
         for shift in [1, 2, 7, 10000, BIG]:
-            for rule in [Rule.remainder(3, shift=shift), Rule.last_figure(3, shift=shift), Rule.leading(1, shift=shift)]:
+            for rule in [Rule.remainder(3, shift=shift), Rule.last_figure(3, shift=shift),
+                         Rule.leading(1, shift=shift)]:
                 self.assertEqual(rule(shift), (("own", shift),))
                 self.assertEqual(rule(1), (("own", 1),))
                 if shift > 1:
@@ -235,6 +237,11 @@ class Products(unittest.TestCase):
             self.assertEqual((first.factors, second.factors), before)
             self.assertEqual((first * second * first).factors, first.factors + second.factors + first.factors)
             self.assertEqual((first * (second * first)).factors, first.factors + second.factors + first.factors)
+
+    def test_products_with_other_values(self):
+        for other in [2, 0, None, "x", (), Form({"x": 1})]:
+            self.assertRaises(TypeError, lambda: Rule.remainder(4) * other)
+            self.assertRaises(TypeError, lambda: other * Rule.remainder(4))
 
     def test_length(self):
         self.assertEqual([len(rule) for rule in self.RULES], [0, 1, 1, 1])
@@ -339,7 +346,8 @@ class Same(unittest.TestCase):
 
     def test_wrong_records(self):
         for rule in [Rule.one_shard(), Rule.remainder(4), Rule.last_figure(3, shift=-9), Rule.leading(8)]:
-            for records, expected in [([0], 0), ([1, 2, -5], -5), ([1, -3, 0], -3), ([0, -3], 0), ([1, 2, 3, 4, -1], -1)]:
+            for records, expected in [([0], 0), ([1, 2, -5], -5), ([1, -3, 0], -3), ([0, -3], 0),
+                                      ([1, 2, 3, 4, -1], -1)]:
                 before = copy.copy(records)
                 self.assertEqual(raised(self, OutOfRange, "value", rule.same, records), expected)
                 self.assertEqual(records, before)
